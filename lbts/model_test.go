@@ -138,11 +138,16 @@ func small() []member {
 	return append(all, member{Constrained: true, Kind: 2, Ask: 4})
 }
 
+// latest is above all times but Inf that n small members may come to: who hangs on nobody to 8 at most, and each that hangs on others to 3 more than one of them.
+func latest(n int) int {
+	return 8 + 3*(n-1) + 1
+}
+
 // P18.2: of all federations of two members of few numbers, the greatest times for which all is so.
 func TestGreatestOfTwo(t *testing.T) {
 	for _, a := range small() {
 		for _, b := range small() {
-			greatest(t, []member{a, b}, 9)
+			greatest(t, []member{a, b}, latest(2))
 		}
 	}
 }
@@ -156,7 +161,7 @@ func TestGreatestOfMore(t *testing.T) {
 			for i := range l {
 				l[i] = some[draw(len(some))]
 			}
-			greatest(t, l, 11)
+			greatest(t, l, latest(n))
 		}
 	}
 }
